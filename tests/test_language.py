@@ -1,0 +1,105 @@
+"""The files of the package keep to the plain part of Python that they are written in.
+
+Not every rule of LANGUAGE.md is checked here, only those that are easily broken unawares.
+"""
+
+import ast
+import re
+import unittest
+from pathlib import Path
+
+PACKAGE = Path(__file__).resolve().parent.parent / "wishmart"
+FILES = sorted(path for path in PACKAGE.rglob("*") if path.is_file() and path.parent.name != "__pycache__")
+
+STATEMENTS = (ast.FunctionDef, ast.ClassDef, ast.ImportFrom, ast.Assign, ast.AugAssign, ast.AnnAssign, ast.If,
+              ast.While, ast.For, ast.Return, ast.Break, ast.Continue, ast.Pass, ast.Raise, ast.Assert, ast.Delete,
+              ast.Try, ast.Expr)
+BARRED_NODES = (ast.GeneratorExp, ast.NamedExpr, ast.Yield, ast.YieldFrom, ast.Await, ast.Div, ast.MatMult)
+BUILTINS = set("""len range enumerate zip min max sum abs sorted reversed int str bool bytes list tuple dict set
+    isinstance ord repr any all divmod Exception ValueError KeyError IndexError LookupError ZeroDivisionError
+    ArithmeticError OverflowError RuntimeError NotImplementedError TypeError""".split())
+BARRED_WORDS = re.compile(r"\b(type|typing|typing_extensions|enum|Enum|IntEnum|StrEnum|Flag|IntFlag|Generic|Protocol|"
+                          r"ABC|ABCMeta|namedtuple|NamedTuple|TypedDict|TYPE_CHECKING|abstractmethod)\b|"
+                          r"dataclass|overload|contextmanager")
+BARRED_NAMES = set("""register mro elements open input eval exec getattr setattr hasattr vars dir id type super
+    help exit quit globals locals compile chr format os sys gc""".split())
+OWN_DOUBLES = {"__init__", "__eq__", "__repr__", "__str__", "__len__"}
+
+
+def bound_names(tree):
+    """All names that a file gives a meaning."""
+    for node in ast.walk(tree):
+        if isinstance(node, (ast.FunctionDef, ast.ClassDef)):
+            yield node.name
+        elif isinstance(node, ast.arg):
+            yield node.arg
+        elif isinstance(node, ast.Name) and isinstance(node.ctx, ast.Store):
+            yield node.id
+        elif isinstance(node, ast.alias):
+            yield node.asname or node.name
+
+
+class LanguageTest(unittest.TestCase):
+    def each_tree(self):
+        for path in FILES:
+            with self.subTest(file=path.name):
+                yield path, ast.parse(path.read_text("ascii"))
+
+    def test_files(self):
+        self.assertIn(PACKAGE / "__init__.py", FILES)
+        for path in FILES:
+            self.assertRegex(path.name, r"\A[a-z0-9_]+\.py\Z")
+
+    def test_characters_lines_and_words(self):
+        for path in FILES:
+            lines = path.read_text("ascii").split("\n")
+            self.assertLessEqual(len(lines), 401, path.name)
+            for at, line in enumerate(lines, 1):
+                self.assertRegex(line, r"\A[ -~]{0,120}\Z", (path.name, at))
+                self.assertIsNone(BARRED_WORDS.search(line), (path.name, at))
+
+    def test_statements_and_expressions(self):
+        for path, tree in self.each_tree():
+            for node in ast.walk(tree):
+                where = (path.name, getattr(node, "lineno", 0))
+                self.assertNotIsInstance(node, BARRED_NODES, where)
+                if isinstance(node, ast.stmt):
+                    self.assertIsInstance(node, STATEMENTS, where)
+                if isinstance(node, (ast.For, ast.While)):
+                    self.assertEqual(node.orelse, [], where)
+                if isinstance(node, ast.Constant):
+                    self.assertNotIsInstance(node.value, (float, complex), where)
+                    self.assertNotIn("%", str(node.value), where)
+
+    def test_functions_and_classes(self):
+        for path, tree in self.each_tree():
+            for node in ast.walk(tree):
+                if isinstance(node, ast.FunctionDef):
+                    self.assertLessEqual(node.end_lineno - node.lineno, 39, (path.name, node.name))
+                    self.assertEqual(node.decorator_list, [], (path.name, node.name))
+                    self.assertIsNone(node.args.vararg, (path.name, node.name))
+                    self.assertIsNone(node.args.kwarg, (path.name, node.name))
+                    self.assertEqual(node.args.posonlyargs, [], (path.name, node.name))
+                if isinstance(node, ast.ClassDef):
+                    self.assertLessEqual(len(node.bases), 1, (path.name, node.name))
+                    self.assertEqual(node.decorator_list, [], (path.name, node.name))
+
+    def test_imports(self):
+        for path, tree in self.each_tree():
+            for node in ast.walk(tree):
+                if isinstance(node, ast.ImportFrom):
+                    self.assertRegex(node.module, r"\Awishmart\.[a-z_]+\Z", path.name)
+                    self.assertEqual(node.level, 0, path.name)
+                    self.assertNotIn("*", [each.name for each in node.names], path.name)
+
+    def test_names(self):
+        for path, tree in self.each_tree():
+            bound = set(bound_names(tree))
+            self.assertEqual(bound & (BARRED_NAMES | BUILTINS), set(), path.name)
+            self.assertEqual({name for name in bound if name.startswith("_")} - OWN_DOUBLES, set(), path.name)
+            read = {node.id for node in ast.walk(tree) if isinstance(node, ast.Name) and isinstance(node.ctx, ast.Load)}
+            self.assertEqual(read - bound - BUILTINS, set(), path.name)
+
+
+if __name__ == "__main__":
+    unittest.main()

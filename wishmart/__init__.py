@@ -1,0 +1,1 @@
+"""Wishmart: markets of straight wishes."""
