@@ -4,20 +4,15 @@ import math
 import unittest
 from fractions import Fraction
 
+from helper import LARGEST, is_lowest, pair
 from wishmart.errors import MartError, NoNumber
-from wishmart.fractions import common_divisor, fraction, is_fraction, is_whole, less, minus, over, plus, times
+from wishmart.fractions import (common_divisor, fraction, greatest, is_fraction, is_whole, least, less, minus,
+                                on_one_bottom, over, plus, times, total)
 
-LARGEST = 10 ** 60 - 1
 LARGE = [10 ** 59, 10 ** 59 + 1, LARGEST, LARGEST - 1, 2 ** 199, 3 ** 125, 6 ** 77, 7 * 10 ** 58]
 POWERS = [2 ** k for k in (1, 2, 3, 10, 31, 32, 63, 64, 198)]
 SMALL = list(range(-13, 14))
 NUMBERS = SMALL + [sign * each for sign in (1, -1) for each in LARGE + POWERS]
-
-
-def pair(value):
-    """Python's own fraction as a tuple."""
-    return (value.numerator, value.denominator)
-
 
 FRACTIONS = sorted({pair(Fraction(top, bottom)) for top in range(-7, 8) for bottom in range(1, 8)})
 FRACTIONS += [(sign * top, bottom) for sign in (1, -1) for top, bottom in [
@@ -28,12 +23,7 @@ FRACTIONS += [(sign * top, bottom) for sign in (1, -1) for top, bottom in [
 class FractionCase(unittest.TestCase):
     def assert_lowest(self, told):
         """Just a tuple of two whole numbers in lowest terms, the bottom from 1 on."""
-        self.assertIs(type(told), tuple)
-        self.assertEqual(len(told), 2)
-        self.assertIs(type(told[0]), int)
-        self.assertIs(type(told[1]), int)
-        self.assertGreaterEqual(told[1], 1)
-        self.assertEqual(math.gcd(told[0], told[1]), 1)
+        self.assertTrue(is_lowest(told), told)
 
 
 class OfTwoNumbersTest(FractionCase):
@@ -146,6 +136,29 @@ class LessTest(unittest.TestCase):
         for one in FRACTIONS:
             for other in FRACTIONS:
                 self.assertIs(less(one, other), Fraction(*one) < Fraction(*other), (one, other))
+
+
+class OfSeveralTest(FractionCase):
+    ROWS = [FRACTIONS[at:at + size] for size in (1, 2, 3, 7) for at in range(0, len(FRACTIONS) - size)]
+
+    def test_total(self):
+        self.assertEqual(total([]), (0, 1))
+        self.assertEqual(total([(1, 2), (1, 3), (1, 6)]), (1, 1))
+        for row in self.ROWS:
+            self.assert_lowest(total(row))
+            self.assertEqual(total(row), pair(sum(Fraction(*part) for part in row)))
+
+    def test_least_and_greatest(self):
+        for row in self.ROWS:
+            for parts in [row, row[::-1], tuple(row)]:
+                self.assertEqual(least(parts), pair(min(Fraction(*part) for part in row)))
+                self.assertEqual(greatest(parts), pair(max(Fraction(*part) for part in row)))
+
+    def test_on_one_bottom(self):
+        self.assertEqual(on_one_bottom([(1, 4), (5, 6), (2, 1), (0, 1), (-1, 3)]), [3, 10, 24, 0, -4])
+        for row in self.ROWS:
+            bottom = math.lcm(*[part[1] for part in row])
+            self.assertEqual(on_one_bottom(row), [Fraction(*part) * bottom for part in row])
 
 
 class WhatIsOneTest(unittest.TestCase):

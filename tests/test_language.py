@@ -23,6 +23,8 @@ BARRED_WORDS = re.compile(r"\b(type|typing|typing_extensions|enum|Enum|IntEnum|S
                           r"dataclass|overload|contextmanager")
 BARRED_NAMES = set("""register mro elements open input eval exec getattr setattr hasattr vars dir id type super
     help exit quit globals locals compile chr format os sys gc""".split())
+ITERATED_AT_ONCE = {"zip", "enumerate", "reversed", "range", "items", "keys", "values"}
+ITERATE = {"list", "tuple", "dict", "sorted", "sum", "any", "all", "enumerate", "zip", "min", "max", "join"}
 OWN_DOUBLES = {"__init__", "__eq__", "__repr__", "__str__", "__len__"}
 
 
@@ -37,6 +39,23 @@ def bound_names(tree):
             yield node.id
         elif isinstance(node, ast.alias):
             yield node.asname or node.name
+
+
+def called(node):
+    """The last word of what a node calls, or None."""
+    if not isinstance(node, ast.Call):
+        return None
+    return node.func.attr if isinstance(node.func, ast.Attribute) else getattr(node.func, "id", None)
+
+
+def parts_with_parents(tree):
+    for parent in ast.walk(tree):
+        for part in ast.iter_child_nodes(parent):
+            yield parent, part
+
+
+def imported_files(tree):
+    return {node.module.split(".")[-1] for node in ast.walk(tree) if isinstance(node, ast.ImportFrom)}
 
 
 class LanguageTest(unittest.TestCase):
@@ -91,6 +110,44 @@ class LanguageTest(unittest.TestCase):
                     self.assertRegex(node.module, r"\Awishmart\.[a-z_]+\Z", path.name)
                     self.assertEqual(node.level, 0, path.name)
                     self.assertNotIn("*", [each.name for each in node.names], path.name)
+
+    def test_no_files_import_each_other(self):
+        files = {path.stem: imported_files(tree) for path, tree in self.each_tree()}
+        reached = {name: set(behind) for name, behind in files.items()}
+        for _ in files:
+            for name in files:
+                reached[name] = reached[name].union(*[reached[other] for other in reached[name]])
+        self.assertEqual([name for name in files if name in reached[name]], [])
+
+    def test_is_stands_with_none_and_truths_only(self):
+        for path, tree in self.each_tree():
+            for node in ast.walk(tree):
+                if isinstance(node, ast.Compare):
+                    for sign, right in zip(node.ops, node.comparators):
+                        if isinstance(sign, (ast.Is, ast.IsNot)):
+                            self.assertIsInstance(right, ast.Constant, (path.name, node.lineno))
+                            self.assertIn(repr(right.value), ("None", "True", "False"), (path.name, node.lineno))
+
+    def test_what_is_iterated_at_once_is_not_stored(self):
+        for path, tree in self.each_tree():
+            for parent, part in parts_with_parents(tree):
+                if called(part) in ITERATED_AT_ONCE:
+                    fits = isinstance(parent, (ast.For, ast.comprehension)) or called(parent) in ITERATE
+                    self.assertTrue(fits, (path.name, part.lineno))
+
+    def test_sets_stand_only_where_they_are_used_up(self):
+        for path, tree in self.each_tree():
+            for parent, part in parts_with_parents(tree):
+                if isinstance(part, (ast.Set, ast.SetComp)) or called(part) in ("set", "frozenset"):
+                    fits = isinstance(parent, (ast.Compare, ast.BinOp)) or called(parent) in ("sorted", "len")
+                    self.assertTrue(fits, (path.name, part.lineno))
+
+    def test_no_name_in_a_function_is_that_of_an_import(self):
+        for path, tree in self.each_tree():
+            imports = {name.name for node in tree.body if isinstance(node, ast.ImportFrom) for name in node.names}
+            for node in tree.body:
+                if isinstance(node, (ast.FunctionDef, ast.ClassDef)):
+                    self.assertEqual(set(bound_names(node)) & imports, set(), (path.name, node.name))
 
     def test_names(self):
         for path, tree in self.each_tree():

@@ -4,10 +4,8 @@ import copy
 import itertools
 import unittest
 
+from helper import LARGEST, MILLION, deep_nest, part_at, places, with_part
 from wishmart.markets import is_market, wished, wishless
-
-MILLION = 10 ** 6
-LARGEST = 10 ** 60 - 1
 
 ONE = ((1,), ((1, 1),), ((0,),))
 THREE = ((1, 60, 7), ((1, 1), (MILLION, 1)), ((0, 100, 3), (1, 0, 2)))
@@ -21,28 +19,6 @@ MARKETS = [ONE, THREE, SIX]
 # Nowhere in a market of more than one good and buyer does one of these fit.
 NOWHERE = [True, False, None, "", "1", "ab", "abc", "amounts", -1, LARGEST, -LARGEST,
            [], [1], [1, 1], [[1], [[1, 1]], [[0]]], [()], (), (None,), (True,), ("",), ((),), ([],), ((((1,),),),)]
-
-
-def places(thing, path=()):
-    """All places in a nest of tuples, the whole first."""
-    yield path
-    if isinstance(thing, tuple):
-        for at, part in enumerate(thing):
-            yield from places(part, path + (at,))
-
-
-def part_at(thing, path):
-    for at in path:
-        thing = thing[at]
-    return thing
-
-
-def with_part(thing, path, part):
-    """The same nest of tuples, with another part at that place."""
-    if not path:
-        return part
-    at = path[0]
-    return thing[:at] + (with_part(thing[at], path[1:], part),) + thing[at + 1:]
 
 
 def market_of(goods, buyers):
@@ -156,9 +132,7 @@ class IsMarketTest(MarketCase):
             self.assertIs(is_market(parts), parts == ONE, parts)
 
     def test_a_deep_nest(self):
-        deep = ()
-        for _ in range(100000):
-            deep = (deep,)
+        deep = deep_nest()
         self.assert_none(deep)
         for path in places(THREE):
             self.assert_none(with_part(THREE, path, deep))

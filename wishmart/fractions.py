@@ -61,3 +61,37 @@ def over(one, other):
 def less(one, other):
     """Tell whether one fraction is below the other."""
     return one[0] * other[1] < other[0] * one[1]
+
+
+def total(parts):
+    """Tell the sum of some fractions; of none it is nought."""
+    whole = (0, 1)
+    for part in parts:
+        whole = plus(whole, part)
+    return whole
+
+
+def least(parts):
+    """Tell the least of some fractions, one at least."""
+    found = parts[0]
+    for part in parts:
+        if less(part, found):
+            found = part
+    return found
+
+
+def greatest(parts):
+    """Tell the greatest of some fractions, one at least."""
+    found = parts[0]
+    for part in parts:
+        if less(found, part):
+            found = part
+    return found
+
+
+def on_one_bottom(parts):
+    """Tell the tops that some fractions have where all are written with one bottom, the least."""
+    bottom = 1
+    for part in parts:
+        bottom = bottom // common_divisor(bottom, part[1]) * part[1]
+    return [part[0] * (bottom // part[1]) for part in parts]
