@@ -150,6 +150,20 @@ def alike_markets(seed, many):
     return made
 
 
+# Markets as great as they can be, with purses far apart and alike.
+GREAT = [
+    ((60,) * 6, ((MILLION, 1),) * 6,
+     tuple(tuple((row * 37 + good * 59) % 101 for good in range(6)) for row in range(6))),
+    ((60,) * 6, ((1, MILLION),) * 6, ((100,) * 6,) * 6),
+    ((1, 60, 1, 60, 1, 60), ((1, MILLION), (MILLION, 1)) * 3,
+     tuple(tuple(100 if row == good else 1 for good in range(6)) for row in range(6))),
+    ((59, 60, 58, 57, 56, 53), tuple(((MILLION - 7 * at, MILLION - 7 * at - 1)) for at in range(6)),
+     tuple(tuple(100 - (row + 2 * good) % 6 for good in range(6)) for row in range(6))),
+    ((60, 1, 60, 1, 60, 1), ((MILLION, 1), (1, MILLION), (1, 1), (999983, MILLION), (MILLION, 999983), (1, 2)),
+     tuple(tuple(max(0, 100 - 30 * abs(row - good)) for good in range(6)) for row in range(6))),
+]
+
+
 # The words of the document.
 
 def money(market, prices, goods):
@@ -288,3 +302,73 @@ def wrong_prices(market, prices):
                 [list(price) for price in prices], tuple(list(price) for price in prices),
                 market, market[0], market[1:]]
     yield from ODD_THINGS
+
+
+# Rises.
+
+def raised(prices, goods, factor):
+    return pairs(value(price) * (factor if good in goods else 1) for good, price in enumerate(prices))
+
+
+def meeting(market, prices, paid, rising):
+    """The factors at which, for a buyer that takes no paid good, one is best beside a good that rises."""
+    bound = takers_of(market, prices, paid)
+    for buyer, row in enumerate(market[2]):
+        for good in paid:
+            for other in rising:
+                if buyer not in bound and row[good] and row[other]:
+                    factor = (row[other] / value(prices[other])) / (row[good] / value(prices[good]))
+                    if factor > 0 and {good, other} <= set(best(market, raised(prices, rising, factor))[buyer]):
+                        yield factor
+
+
+# Changes of a market: ("purse", buyer, fraction), ("amount", good, number), ("wish", buyer, good, number).
+
+def new_purse(purse, chance):
+    """A purse that a market can have: more, less, or the same."""
+    while True:
+        made = chance.choice([value(purse), value(purse) * 2, value(purse) / 2, value(purse) + 1,
+                              value(purse) * Fraction(chance.randint(1, 9), chance.randint(1, 9)),
+                              Fraction(chance.randint(1, 99), chance.randint(1, 9)),
+                              Fraction(chance.randint(1, MILLION), chance.randint(1, MILLION)),
+                              Fraction(1, MILLION), Fraction(MILLION)])
+        if max(pair(made)) <= MILLION:
+            return pair(made)
+
+
+def any_change(market, chance):
+    """A change to what a market can have; some buyer may wish nothing then."""
+    amounts, purses, wishes = market
+    buyer, good = chance.randrange(len(purses)), chance.randrange(len(amounts))
+    word = chance.choice(["purse", "purse", "amount", "wish"])
+    if word == "purse":
+        return (word, buyer, new_purse(purses[buyer], chance))
+    if word == "amount":
+        return (word, good, chance.choice([amounts[good], 1, 60, chance.randint(1, 60), chance.randint(1, 4)]))
+    numbers = [wishes[buyer][good], 0, 0, 1, 100, chance.randint(0, 100), chance.randint(1, 4)]
+    return (word, buyer, good, chance.choice(numbers))
+
+
+def changed(market, change):
+    """The market behind a change."""
+    first = {"amount": 0, "purse": 1, "wish": 2}[change[0]]
+    return with_part(market, (first,) + change[1:-1], change[-1])
+
+
+def some_change(market, chance):
+    """A change behind which each buyer still wishes something."""
+    while True:
+        change = any_change(market, chance)
+        if all_wish(changed(market, change)):
+            return change
+
+
+# None of these can be set in a market as a purse, as an amount, as a wish.
+WRONG_PURSES = NO_FRACTIONS + ODD_THINGS + [
+    (0, 1), (-1, 1), (-1, 2), (MILLION + 1, 1), (1, MILLION + 1), (MILLION + 1, MILLION), (MILLION, MILLION + 1),
+    (LARGEST, 1), (1, LARGEST), (LARGEST, LARGEST - 1), (MILLION, MILLION), (MILLION, 2), (3, 6), ("1", "1"),
+    (None, None), ((1, 1), (1, 1)), ((1, 1),), [(1, 1)], "1/1"]
+WRONG_AMOUNTS = [0, 61, 62, -1, -60, MILLION, LARGEST, -LARGEST, True, False, None, "", "1", "60", [], [1], (), (1,),
+                 (1, 1), [1, 1], ((1, 1),), [[1]], "amount"]
+WRONG_WISHES = [101, 102, -1, -100, MILLION, LARGEST, -LARGEST, True, False, None, "", "0", "1", "100", [], [0], (),
+                (0,), (1,), (0, 1), (1, 1), [1, 1], ((1, 1),), [[1]], "wish"]

@@ -7,24 +7,13 @@ import unittest
 from fractions import Fraction
 
 import helper
-from helper import LARGEST, MILLION, best, pair, pairs, scaled, value, wished_goods, with_part
+from helper import GREAT, LARGEST, best, pair, pairs, scaled, value, wished_goods, with_part
 from wishmart.clearing import clear, shows, worths
 from wishmart.errors import NoPrices, Unwished
 from wishmart.prices import are_prices
 from wishmart.rises import first_prices, rises
 
 MARKETS = helper.some_markets(1, 150) + helper.some_markets(2, 60, least=6)
-GREAT = [
-    ((60,) * 6, ((MILLION, 1),) * 6,
-     tuple(tuple((row * 37 + good * 59) % 101 for good in range(6)) for row in range(6))),
-    ((60,) * 6, ((1, MILLION),) * 6, ((100,) * 6,) * 6),
-    ((1, 60, 1, 60, 1, 60), ((1, MILLION), (MILLION, 1)) * 3,
-     tuple(tuple(100 if row == good else 1 for good in range(6)) for row in range(6))),
-    ((59, 60, 58, 57, 56, 53), tuple(((MILLION - 7 * at, MILLION - 7 * at - 1)) for at in range(6)),
-     tuple(tuple(100 - (row + 2 * good) % 6 for good in range(6)) for row in range(6))),
-    ((60, 1, 60, 1, 60, 1), ((MILLION, 1), (1, MILLION), (1, 1), (999983, MILLION), (MILLION, 999983), (1, 2)),
-     tuple(tuple(max(0, 100 - 30 * abs(row - good)) for good in range(6)) for row in range(6))),
-]
 
 
 def two_goods(market):

@@ -25,6 +25,9 @@ BARRED_NAMES = set("""register mro elements open input eval exec getattr setattr
     help exit quit globals locals compile chr format os sys gc""".split())
 ITERATED_AT_ONCE = {"zip", "enumerate", "reversed", "range", "items", "keys", "values"}
 ITERATE = {"list", "tuple", "dict", "sorted", "sum", "any", "all", "enumerate", "zip", "min", "max", "join"}
+METHODS = set("""append clear copy count endswith extend find get index insert isalnum isalpha isdigit islower isspace
+    isupper items join keys ljust lower lstrip partition pop remove replace reverse rfind rjust rpartition rsplit rstrip
+    setdefault split splitlines startswith strip update upper values zfill bit_length isascii isdecimal""".split())
 OWN_DOUBLES = {"__init__", "__eq__", "__repr__", "__str__", "__len__"}
 
 
@@ -46,6 +49,18 @@ def called(node):
     if not isinstance(node, ast.Call):
         return None
     return node.func.attr if isinstance(node.func, ast.Attribute) else getattr(node.func, "id", None)
+
+
+def own_methods(tree):
+    return {each.name for node in ast.walk(tree) if isinstance(node, ast.ClassDef)
+            for each in node.body if isinstance(each, ast.FunctionDef)}
+
+
+def attributes(tree, context):
+    """The attributes that are set (ast.Store) or read (ast.Load), but for the methods that are called."""
+    methods = {id(node.func) for node in ast.walk(tree) if isinstance(node, ast.Call)}
+    return {node.attr for node in ast.walk(tree) if isinstance(node, ast.Attribute)
+            and isinstance(node.ctx, context) and id(node) not in methods}
 
 
 def parts_with_parents(tree):
@@ -102,6 +117,44 @@ class LanguageTest(unittest.TestCase):
                 if isinstance(node, ast.ClassDef):
                     self.assertLessEqual(len(node.bases), 1, (path.name, node.name))
                     self.assertEqual(node.decorator_list, [], (path.name, node.name))
+
+    def test_methods_and_attributes(self):
+        trees = [tree for path, tree in self.each_tree()]
+        own = set().union(*[own_methods(tree) for tree in trees])
+        held = set().union(*[attributes(tree, ast.Store) for tree in trees])
+        read = set().union(*[attributes(tree, ast.Load) for tree in trees])
+        self.assertEqual(own & held, set())
+        self.assertEqual(read - held, set())
+        self.assertEqual({name for name in own if name.startswith("__")} - OWN_DOUBLES, set())
+        self.assertEqual(held & METHODS, set())
+        for path, tree in self.each_tree():
+            methods = {called(node) for node in ast.walk(tree)
+                       if isinstance(node, ast.Call) and isinstance(node.func, ast.Attribute)}
+            self.assertEqual(methods - METHODS - own, set(), path.name)
+
+    def test_classes_hold_methods_only(self):
+        for path, tree in self.each_tree():
+            for node in ast.walk(tree):
+                if isinstance(node, ast.ClassDef):
+                    for each in node.body:
+                        docstring = isinstance(each, ast.Expr) and isinstance(each.value, ast.Constant)
+                        self.assertTrue(docstring or isinstance(each, ast.FunctionDef), (path.name, each.lineno))
+
+    def test_only_plain_values_stand_at_module_level(self):
+        for path, tree in self.each_tree():
+            for node in tree.body:
+                where = (path.name, node.lineno)
+                self.assertIsInstance(node, (ast.Expr, ast.ImportFrom, ast.FunctionDef, ast.ClassDef, ast.Assign), where)
+                if isinstance(node, ast.Assign):
+                    for each in ast.walk(node.value):
+                        self.assertNotIsInstance(each, (ast.Call, ast.ListComp, ast.DictComp, ast.Set), where)
+
+    def test_each_name_is_bound_once_at_module_level(self):
+        for path, tree in self.each_tree():
+            names = [name for node in tree.body if not isinstance(node, (ast.FunctionDef, ast.ClassDef))
+                     for name in bound_names(node)]
+            names += [node.name for node in tree.body if isinstance(node, (ast.FunctionDef, ast.ClassDef))]
+            self.assertEqual(len(names), len(set(names)), path.name)
 
     def test_imports(self):
         for path, tree in self.each_tree():

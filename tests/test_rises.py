@@ -5,17 +5,14 @@ import unittest
 from fractions import Fraction
 
 import helper
-from helper import best, money, pair, pairs, purses_of, scaled, subsets, takers_of, value, wished_goods, with_part
+from helper import (meeting, money, pair, pairs, purses_of, raised, scaled, subsets, takers_of, value, wished_goods,
+                    with_part)
 from wishmart.errors import Dear, NoPrices, Unwished
 from wishmart.rises import first_prices, rise, rises
 from wishmart.sets import dear_goods, paid_goods
 
 # Two buyers with the purses 3 and 5, each wishing one good of its own alone; good 2 is free.
 APART = ((1, 2, 9), ((3, 1), (5, 1)), ((1, 0, 0), (0, 1, 0)))
-
-
-def raised(prices, goods, factor):
-    return pairs(value(price) * (factor if good in goods else 1) for good, price in enumerate(prices))
 
 
 def paying(market, prices, paid, rising):
@@ -25,18 +22,6 @@ def paying(market, prices, paid, rising):
         if some:
             buyers = [buyer for buyer in takers_of(market, prices, some) if buyer not in bound]
             yield purses_of(market, buyers) / money(market, prices, some)
-
-
-def meeting(market, prices, paid, rising):
-    """The factors at which, for a buyer that takes no paid good, one is best beside a good that rises."""
-    bound = takers_of(market, prices, paid)
-    for buyer, row in enumerate(market[2]):
-        for good in paid:
-            for other in rising:
-                if buyer not in bound and row[good] and row[other]:
-                    factor = (row[other] / value(prices[other])) / (row[good] / value(prices[good]))
-                    if factor > 0 and {good, other} <= set(best(market, raised(prices, rising, factor))[buyer]):
-                        yield factor
 
 
 def rise_by_words(market, prices):

@@ -4,7 +4,7 @@ from wishmart.dealings import got_in_all, is_dealing, worth_of
 from wishmart.fractions import fraction, times, total
 from wishmart.markets import wished
 from wishmart.prices import best_goods
-from wishmart.rises import first_prices, rises
+from wishmart.rises import first_prices, prices_behind, rises
 from wishmart.sets import in_coins
 
 
@@ -17,14 +17,17 @@ def clear(market):
 def prices_that_clear(market):
     """Tell the prices behind the last of the rises from the first prices."""
     first = first_prices(market)
-    told = rises(market, first)
-    return told[-1][2] if told else first
+    return prices_behind(first, rises(market, first))
 
 
 def dealing_at(market, prices):
     """Tell a dealing that shows prices that clear."""
     money, purses = in_coins(market, prices)
-    spent = spend(best_goods(market, prices), money, purses)
+    return dealing_by(market, money, spend(best_goods(market, prices), money, purses))
+
+
+def dealing_by(market, money, spent):
+    """Tell the dealing where each buyer has spent so many coins on each good."""
     return tuple([
         tuple([pieces_for(row[good], money[good], amount) for good, amount in enumerate(market[0])])
         for row in spent

@@ -1,5 +1,6 @@
 """Markets: tuples (amounts, purses, wishes)."""
 
+from wishmart.errors import NoBuyer, NoGood
 from wishmart.fractions import is_fraction, is_whole
 
 MOST_GOODS = 6
@@ -77,3 +78,15 @@ def wishless(market):
         if not any(row):
             return buyer
     return None
+
+
+def need_buyer(market, number):
+    """Refuse what is no buyer's number."""
+    if not is_whole(number) or not 0 <= number < len(market[1]):
+        raise NoBuyer("the market has no buyer of this number")
+
+
+def need_good(market, number):
+    """Refuse what is no good's number."""
+    if not is_whole(number) or not 0 <= number < len(market[0]):
+        raise NoGood("the market has no good of this number")

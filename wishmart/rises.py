@@ -76,3 +76,8 @@ def rises(market, prices):
         told.append(step)
         step = rise(market, step[2])
     return told
+
+
+def prices_behind(prices, told):
+    """Tell the prices behind the last of some rises from prices, these themselves where there is none."""
+    return told[-1][2] if told else prices

@@ -37,10 +37,8 @@ def goods_above(market, prices):
     }
 
 
-def buyers_above(market, prices):
+def buyers_above(best, money, purses):
     """Tell for each set of buyers by how many coins its purses are above the money of its best goods."""
-    best = best_goods(market, prices)
-    money, purses = in_coins(market, prices)
     return {
         some: coins_of(purses, some) - coins_of(money, goods_by_best(best, some))
         for some in all_sets(list(range(len(purses))))
@@ -66,7 +64,9 @@ def dear_goods(market, prices):
 
 def rich_buyers(market, prices):
     """Tell the buyers that are too rich by most, () where none are."""
-    return least_of_most(buyers_above(market, prices))
+    best = best_goods(market, prices)
+    money, purses = in_coins(market, prices)
+    return least_of_most(buyers_above(best, money, purses))
 
 
 def paid_goods(market, prices):
