@@ -372,3 +372,42 @@ WRONG_AMOUNTS = [0, 61, 62, -1, -60, MILLION, LARGEST, -LARGEST, True, False, No
                  (1, 1), [1, 1], ((1, 1),), [[1]], "amount"]
 WRONG_WISHES = [101, 102, -1, -100, MILLION, LARGEST, -LARGEST, True, False, None, "", "0", "1", "100", [], [0], (),
                 (0,), (1,), (0, 1), (1, 1), [1, 1], ((1, 1),), [[1]], "wish"]
+
+
+# Dealings.
+
+def any_dealing(market, chance, all_dealt=False):
+    """A dealing of no more of each good than there is, as tuples; free goods may be dealt, too."""
+    columns = []
+    for amount in market[0]:
+        most = chance.choice([1, 4, 10 ** 9, 10 ** 50])
+        weights = [chance.choice([0, chance.randint(0, most)]) for _ in market[1]]
+        left = 0 if all_dealt or chance.random() < 0.3 else chance.randint(0, most)
+        if not any(weights):
+            weights[chance.randrange(len(weights))] = 1
+        columns.append([Fraction(amount * weight, sum(weights) + left) for weight in weights])
+    return tuple(pairs(column[buyer] for column in columns) for buyer in range(len(market[1])))
+
+
+def worth(wishes, got):
+    return sum((wish * value(part) for wish, part in zip(wishes, got)), Fraction(0))
+
+
+def wrong_dealings(market, dealing):
+    """Things that are no dealing of a market of two goods and two buyers at least: a dealing spoilt at any place."""
+    for path in places(dealing):
+        for thing in ODD_THINGS + NO_FRACTIONS:
+            # A lone number may be right in its place.
+            if len(path) < 3 or type(thing) is not int:
+                yield with_part(dealing, path, thing)
+        part = part_at(dealing, path)
+        if isinstance(part, tuple):
+            for thing in [list(part), part[:-1], part[1:], part + part[-1:], part + (None,), (part,), (),
+                          part + ((0, 1),), part + (((0, 1),) * len(market[0]),)]:
+                yield with_part(dealing, path, thing)
+    for good, amount in enumerate(market[0]):
+        for buyer, row in enumerate(dealing):
+            others = sum(value(each[good]) for each in dealing) - value(row[good])
+            for much in [amount - others + Fraction(1, LARGEST), amount + 1, Fraction(LARGEST), Fraction(-1),
+                         Fraction(-1, LARGEST)]:
+                yield with_part(dealing, (buyer, good), pair(much))

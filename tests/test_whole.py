@@ -1,4 +1,7 @@
-"""Promise 3: what it says of prices that clear, rises, goods too dear, buyers too rich, worths, and growing purses."""
+"""Promise 3: what it says of prices that clear, rises, goods too dear, buyers too rich, worths, and growing purses.
+
+What it says of fairs, stretches, whole dealings, how good a dealing is, and barters is held in the tests of these.
+"""
 
 import random
 import unittest

@@ -1,6 +1,6 @@
 """Clearing: the prices at which all is sold and spent, and a dealing that shows it."""
 
-from wishmart.dealings import got_in_all, is_dealing, worth_of
+from wishmart.dealings import got_in_all, is_dealing, worths_of
 from wishmart.fractions import fraction, times, total
 from wishmart.markets import wished
 from wishmart.prices import best_goods
@@ -128,5 +128,4 @@ def spends_all(market, prices, dealing):
 
 def worths(market):
     """Tell the worths of the dealing that is told with the prices that clear."""
-    dealing = clear(market)[1]
-    return tuple([worth_of(row, got) for row, got in zip(market[2], dealing)])
+    return worths_of(market, clear(market)[1])

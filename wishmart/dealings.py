@@ -25,3 +25,8 @@ def got_in_all(dealing, good):
 def worth_of(wishes, got):
     """Tell the worth of what a buyer gets, by its wishes."""
     return total([times((wish, 1), part) for wish, part in zip(wishes, got)])
+
+
+def worths_of(market, dealing):
+    """Tell for each buyer the worth of what it gets."""
+    return tuple([worth_of(row, got) for row, got in zip(market[2], dealing)])
